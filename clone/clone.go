@@ -1,0 +1,30 @@
+// Package clone makes new memory of what is handed in or kept, down to the last list.
+package clone
+
+import (
+	"slices"
+
+	"klaxon/api"
+)
+
+// each is l, each element of it made anew by one.
+func each[T any](l []T, one func(T) T) []T {
+	made := make([]T, 0, len(l))
+	for _, x := range l {
+		made = append(made, one(x))
+	}
+	return made
+}
+
+// Sets is new memory of label sets.
+func Sets(l [][]api.Label) [][]api.Label {
+	return each(l, slices.Clone[[]api.Label])
+}
+
+// Expr is new memory of an expression.
+func Expr(x api.Expr) api.Expr {
+	x.Ms = slices.Clone(x.Ms)
+	x.Names = slices.Clone(x.Names)
+	x.Kids = each(x.Kids, Expr)
+	return x
+}
