@@ -28,3 +28,13 @@ func Expr(x api.Expr) api.Expr {
 	x.Kids = each(x.Kids, Expr)
 	return x
 }
+
+// Points is new memory of points.
+func Points(l []api.Point) []api.Point {
+	return each(l, point)
+}
+
+func point(p api.Point) api.Point {
+	p.Set = slices.Clone(p.Set)
+	return p
+}
