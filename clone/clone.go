@@ -38,3 +38,9 @@ func point(p api.Point) api.Point {
 	p.Set = slices.Clone(p.Set)
 	return p
 }
+
+// Rule is new memory of a rule.
+func Rule(r api.Rule) api.Rule {
+	r.Expr = Expr(r.Expr)
+	return r
+}
