@@ -44,3 +44,9 @@ func Rule(r api.Rule) api.Rule {
 	r.Expr = Expr(r.Expr)
 	return r
 }
+
+// Note is new memory of a note.
+func Note(n api.Note) api.Note {
+	n.Alerts = slices.Clone(n.Alerts)
+	return n
+}
