@@ -50,3 +50,10 @@ func Note(n api.Note) api.Note {
 	n.Alerts = slices.Clone(n.Alerts)
 	return n
 }
+
+// Route is new memory of a tree of routes.
+func Route(r api.Route) api.Route {
+	r.Ms = slices.Clone(r.Ms)
+	r.Kids = each(r.Kids, Route)
+	return r
+}
