@@ -67,6 +67,14 @@ func sampleFrame(text string, x api.Sample) []byte {
 	return archive.Frame(1, sized([]byte(text)), block.Number(x.Time, x.Value))
 }
 
+// spoil writes over all of l, the room behind it, too.
+func spoil[T any](l []T, mark T) {
+	l = l[:cap(l)]
+	for i := range l {
+		l[i] = mark
+	}
+}
+
 func TestFrame(t *testing.T) {
 	for _, c := range []struct {
 		kind  byte
@@ -88,9 +96,7 @@ func TestFrame(t *testing.T) {
 		t.Error("the sum of many", tail)
 	}
 	parts := [][]byte{append([]byte{1, 2}, 9)[:2], {3}}
-	got := archive.Frame(1, parts...)
-	got = append(got, 7)
-	got[1] = 7
+	spoil(archive.Frame(1, parts...), 7)
 	if parts[0][:3][2] != 9 || parts[0][0] != 1 {
 		t.Error("parts were changed")
 	}
@@ -129,8 +135,12 @@ func TestScan(t *testing.T) {
 		}
 	}
 	bodies, _ := archive.Scan(both)
-	bodies[0] = append(bodies[0], 7, 7, 7, 7, 7)
-	bodies[0][0], bodies[1][0] = 7, 7
+	spoil(bodies[0], 7)
+	if !bytes.Equal(bodies[1], []byte{9}) {
+		t.Error("bodies share memory")
+	}
+	spoil(bodies[1], 7)
+	spoil(bodies, nil)
 	if again, _ := archive.Scan(both); !slices.EqualFunc(again, [][]byte{{1, 5, 6}, {9}}, bytes.Equal) {
 		t.Error("Scan shares memory")
 	}
@@ -206,7 +216,7 @@ func TestOpenForm(t *testing.T) {
 	}
 	for i, bad := range [][]byte{
 		archive.Frame(0), archive.Frame(4), archive.Frame(255, []byte{1}),
-		archive.Frame(1), archive.Frame(1, sized([]byte(`{a="x"}`))), archive.Frame(1, sized([]byte(`{a="x"}`)), block.Number(9)), archive.Frame(1, sized([]byte(`{a="x"}`)), block.Number(9, 1), []byte{0}),
+		archive.Frame(1), archive.Frame(1, sized([]byte(`{b="x"}`))), archive.Frame(1, sized([]byte(`{b="x"}`)), block.Number(9)), archive.Frame(1, sized([]byte(`{a="x"}`)), block.Number(9, 1), []byte{0}),
 		archive.Frame(1, sized([]byte(`{a="x"} `)), block.Number(9, 1)), archive.Frame(1, sized([]byte(`{b="1",a="2"}`)), block.Number(9, 1)), archive.Frame(1, sized(nil), block.Number(9, 1)), archive.Frame(1, []byte{0x80, 0}, block.Number(9, 1)),
 		archive.Frame(1, sized([]byte(`{b="x"}`)), []byte{0x80, 0, 2}), archive.Frame(1, sized([]byte(`{b="x"}`)), []byte{2, 0x80, 0}), archive.Frame(1, block.Number(-1), block.Number(9, 1)), archive.Frame(1, block.Number(math.MaxInt), block.Number(9, 1)), archive.Frame(1, block.Number(8), []byte(`{b="x"}`)),
 		sampleFrame(`{a="x"}`, sample(5, 1)), sampleFrame(`{a="x"}`, sample(4, 1)), sampleFrame(`{b="x"}`, sample(-1, 1)), sampleFrame(`{b="x"}`, sample(api.MaxTime+1, 1)), sampleFrame(`{b="x"}`, sample(math.MinInt, 1)),

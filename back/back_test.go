@@ -198,6 +198,11 @@ func TestApply(t *testing.T) {
 		{row(3, 3), row(0, 2), 0, 0, grid(0, 10, 10), nil, row(3, 3)},
 		{nil, nil, 0, 0, grid(0, 10, 10), nil, nil},
 		{row(0, 3), nil, 10, 0, grid(0, 5, 0), nil, nil},
+		// Ticks alone that are the grid's.
+		{row(0, 9), nil, 10, 0, grid(0, 5, 4), row(0, 1), row(2, 3)},
+		{row(0, 2), row(3, 9), 10, 0, grid(0, 5, 6), row(0, 1), row(2, 5)},
+		{row(8, 9), row(6, 6), 0, 0, grid(0, 5, 6), nil, nil},
+		{row(0, 0, 7, 9), nil, 0, 1000, grid(0, 5, 6), nil, row(0, 5)},
 		{row(0, 199), nil, api.MaxSpan, api.MaxSpan, grid(0, 1, 200), row(0, 199), nil},
 		{row(0, 199), nil, 199, 0, grid(0, 1, 200), row(0, 198), row(199, 199)},
 		{row(0, 0), nil, 0, 198, grid(0, 1, 200), nil, row(0, 198)},
@@ -328,6 +333,14 @@ func TestAnything(t *testing.T) {
 	}
 }
 
+// spoil writes over all of l, the room behind it, too.
+func spoil[T any](l []T, mark T) {
+	l = l[:cap(l)]
+	for i := range l {
+		l[i] = mark
+	}
+}
+
 func TestMemory(t *testing.T) {
 	s := store.New()
 	feed(t, s, `{a="x",name="m"}`, 5, "5 5 5 . . . 5 5 5 5")
@@ -338,21 +351,21 @@ func TestMemory(t *testing.T) {
 		t.Error(was)
 	}
 	got := back.Run(r, s, g)
-	got.Stories[0].Set[0].Value = "spoiled"
-	got.Stories[0].Pending[0].From = 77
-	got.Stories[0].Firing = append(got.Stories[0].Firing[:1], row(77, 77)...)
+	mark := api.Span{From: 77, To: 77}
+	spoil(got.Stories[0].Set, api.Label{Name: "spoiled"})
+	spoil(got.Stories[0].Pending, mark)
+	spoil(got.Stories[0].Firing, mark)
 	stories, _ := back.Holds(r, s, g)
-	stories[0].Firing[0].From = 77
+	spoil(stories[0].Firing, mark)
 	if told(back.Run(r, s, g)) != was {
 		t.Error("answers share memory", told(back.Run(r, s, g)))
 	}
 	holds, errs := row(0, 3, 5, 7), row(4, 4, 9, 9)
 	pending, firing := back.Apply(holds[:1], errs[:1], r, g)
-	pending[0].From = 77
-	firing = append(firing, row(66, 66)...)
-	firing[0].From = 77
+	spoil(pending, mark)
+	spoil(firing, mark)
 	changes := []int{9, 3, 5}
-	back.Points(g, changes[:2]...)[0] = 7
+	spoil(back.Points(g, changes[:2]...), 7)
 	if !slices.Equal(holds, row(0, 3, 5, 7)) || !slices.Equal(errs, row(4, 4, 9, 9)) || !slices.Equal(changes, []int{9, 3, 5}) {
 		t.Error("what was handed in was changed")
 	}

@@ -158,8 +158,8 @@ func TestMemory(t *testing.T) {
 	b := block.Put(l[:2])
 	b2 := append(slices.Clone(b), 9)
 	got, _ := block.Get(b2[:len(b)])
-	got = append(got, row(7, 7)...)
 	got[0].Value = 7
+	got = append(got, row(7, 7)...)
 	block.Next(b2[:1])
 	if !slices.Equal(l, row(1, 2, 3, 4, 9, 9)) || !bytes.Equal(b2, append(slices.Clone(b), 9)) {
 		t.Error("what was handed in was changed")

@@ -16,11 +16,6 @@ func each[T any](l []T, one func(T) T) []T {
 	return made
 }
 
-// Sets is new memory of label sets.
-func Sets(l [][]api.Label) [][]api.Label {
-	return each(l, slices.Clone[[]api.Label])
-}
-
 // Expr is new memory of an expression.
 func Expr(x api.Expr) api.Expr {
 	x.Ms = slices.Clone(x.Ms)

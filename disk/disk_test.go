@@ -178,6 +178,14 @@ func TestBoot(t *testing.T) {
 	}
 }
 
+// spoil writes over all of l, the room behind it, too.
+func spoil[T any](l []T, mark T) {
+	l = l[:cap(l)]
+	for i := range l {
+		l[i] = mark
+	}
+}
+
 func TestMemory(t *testing.T) {
 	d := disk.New(10)
 	part := []byte("abcd")
@@ -188,10 +196,9 @@ func TestMemory(t *testing.T) {
 		t.Error("what was handed in is kept, or changed")
 	}
 	got := d.Read()
-	got = append(got, 'x')
-	got[0] = 'z'
+	spoil(got, 'z')
 	d.Write([]byte("e"))
-	if string(d.Read()) != "abde" || string(got) != "zbdx" {
+	if string(d.Read()) != "abde" || string(got) != "zzz" {
 		t.Error("Read shares memory", string(d.Read()), string(got))
 	}
 	before := d.Read()

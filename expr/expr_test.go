@@ -208,7 +208,7 @@ func wrong() []struct {
 		{"{,}[5]", 1, api.ErrForm}, {`{a="x",}[5]`, 7, api.ErrForm}, {`{a="x" b="y"}[5]`, 7, api.ErrForm}, {`{a="x",,b="y"}[5]`, 7, api.ErrForm}, {`{a}[5]`, 2, api.ErrForm}, {`{a=}[5]`, 3, api.ErrForm}, {`{a=x}[5]`, 3, api.ErrForm}, {`{a=5}[5]`, 3, api.ErrForm}, {`{a=="x"}[5]`, 2, api.ErrForm}, {`{a<"x"}[5]`, 2, api.ErrForm}, {`{"a"="x"}[5]`, 1, api.ErrForm}, {`{5="x"}[5]`, 1, api.ErrForm}, {`{a="x"`, 6, api.ErrForm}, {`{a="x",`, 7, api.ErrForm}, {`{a=`, 3, api.ErrForm}, {`{a`, 2, api.ErrForm}, {`{a "x"}[5]`, 3, api.ErrForm},
 		{"sum", 3, api.ErrForm}, {"sum (a) ({}[5])", 4, api.ErrForm}, {"sum by", 6, api.ErrForm}, {"sum by a ({}[5])", 7, api.ErrForm}, {"sum by (", 8, api.ErrForm}, {"sum by (,) ({}[5])", 8, api.ErrForm}, {"sum by (a,) ({}[5])", 10, api.ErrForm}, {"sum by (a b) ({}[5])", 10, api.ErrForm}, {"sum by (5) ({}[5])", 8, api.ErrForm}, {`sum by ("a") ({}[5])`, 8, api.ErrForm}, {"sum by (a", 9, api.ErrForm}, {"sum by (a)", 10, api.ErrForm}, {"sum by (a) {}[5]", 11, api.ErrForm}, {"sum by (a) (", 12, api.ErrForm}, {"sum by (a) ()", 12, api.ErrForm}, {"sum by (a) ({}[5]", 17, api.ErrForm}, {"sum by (a) ({}[5] + 1)", 18, api.ErrForm}, {`"sum" by (a) ({}[5])`, 0, api.ErrForm}, {`sum "by" (a) ({}[5])`, 4, api.ErrForm},
 		{open + "1", 8, api.ErrDeep}, {open + "{", 8, api.ErrDeep}, {open + "(", 8, api.ErrDeep}, {open + " sum", 9, api.ErrDeep}, {open + "min", 8, api.ErrDeep}, {open + "max", 8, api.ErrDeep}, {open + "count", 8, api.ErrDeep},
-		{open, 8, api.ErrForm}, {open + " ", 9, api.ErrForm}, {open + ")", 8, api.ErrForm}, {open + "a", 8, api.ErrForm}, {open + "by", 8, api.ErrForm}, {open + `"x"`, 8, api.ErrForm}, {open + "+", 8, api.ErrForm}, {open + "1 $", 10, api.ErrForm},
+		{open + `"sum"`, 8, api.ErrForm}, {open, 8, api.ErrForm}, {open + " ", 9, api.ErrForm}, {open + ")", 8, api.ErrForm}, {open + "a", 8, api.ErrForm}, {open + "by", 8, api.ErrForm}, {open + `"x"`, 8, api.ErrForm}, {open + "+", 8, api.ErrForm}, {open + "1 $", 10, api.ErrForm},
 		{strings.Repeat("(", 7) + "1 + (", 12, api.ErrForm}, {strings.Repeat("(", 7) + "1 + (1", 12, api.ErrDeep}, {strings.Repeat("sum by () (", 8) + "{}[5]", 88, api.ErrDeep}, {"(1 + " + strings.Repeat("sum by () (", 7) + "{}[5]", 82, api.ErrDeep},
 		{"{}[0]", 0, api.ErrForm}, {" {}[-1]", 0, api.ErrForm}, {"{}[1048577]", 0, api.ErrForm}, {"(1 > {}[5])", 0, api.ErrForm}, {"(1 and 2)", 0, api.ErrForm}, {"({}[5] and 2)", 0, api.ErrForm}, {"sum by () (1)", 0, api.ErrForm}, {"sum by (a,a) ({}[5])", 0, api.ErrForm}, {"sum by (a,b,c,d,e,f,g) ({}[5])", 0, api.ErrForm}, {`{a="",a="",a="",a="",a="",a="",a=""}[5]`, 0, api.ErrForm}, {"(1 == 1)", 0, api.ErrForm},
 		{"(1 > {}[5]) 1", 12, api.ErrForm}, {"(1 > {}[5]", 10, api.ErrForm},
@@ -364,6 +364,14 @@ func TestSame(t *testing.T) {
 	}
 }
 
+// spoil writes over all of l, the room behind it, too.
+func spoil[T any](l []T, mark T) {
+	l = l[:cap(l)]
+	for i := range l {
+		l[i] = mark
+	}
+}
+
 func TestPicks(t *testing.T) {
 	x := two(api.XAdd, one(api.XSum, two(api.XAnd, pick(1, eq("a", "x")), pick(2)), "a"), two(api.XMul, num(1), pick(3)))
 	check := func(x api.Expr, want ...api.Expr) {
@@ -382,8 +390,8 @@ func TestPicks(t *testing.T) {
 	check(api.Expr{Kids: []api.Expr{inner}}, inner, pick(2), pick(3))
 
 	got := expr.Picks(x)
-	got[0].Ms[0].Value = "spoiled"
-	got[0].Ms = append(got[0].Ms, eq("b", "x"))
+	spoil(got[0].Ms, eq("b", "x"))
+	spoil(got, api.Expr{})
 	if expr.Picks(x)[0].Ms[0].Value != "x" {
 		t.Error("Picks share memory")
 	}

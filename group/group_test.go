@@ -202,12 +202,19 @@ func TestCopy(t *testing.T) {
 	}
 }
 
+// spoil writes over all of l, the room behind it, too.
+func spoil[T any](l []T, mark T) {
+	l = l[:cap(l)]
+	for i := range l {
+		l[i] = mark
+	}
+}
+
 func TestMemory(t *testing.T) {
 	g := made(t, 0, 5, 20)
 	given := []string{"a", "b", "more"}
 	got, _ := g.Tick(0, given[:2]...)
-	got = append(got, "x")
-	got[0] = "spoiled"
+	spoil(got, "spoiled")
 	if fmt.Sprint(given) != "[a b more]" {
 		t.Error("what was handed in was changed")
 	}

@@ -241,6 +241,14 @@ func TestCompare(t *testing.T) {
 	}
 }
 
+// spoil writes over all of l, the room behind it, too.
+func spoil[T any](l []T, mark T) {
+	l = l[:cap(l)]
+	for i := range l {
+		l[i] = mark
+	}
+}
+
 func TestNewMemory(t *testing.T) {
 	mark := api.Label{Name: "mark", Value: "mark"}
 	l := set("a", "1", "b", "2", "c", "3")
@@ -258,12 +266,7 @@ func TestNewMemory(t *testing.T) {
 		"Drop":      func() []api.Label { return lset.Drop(given, givenNames...) },
 		"Drop none": func() []api.Label { return lset.Drop(given) },
 	} {
-		got := call()
-		got = append(got, mark)
-		got = got[:cap(got)]
-		for i := range got {
-			got[i] = api.Label{Name: "spoiled"}
-		}
+		spoil(call(), api.Label{Name: "spoiled"})
 		if spoiled(given, l, mark) || spoiled(givenNames, names, "mark") {
 			t.Fatal(name, "shares memory")
 		}

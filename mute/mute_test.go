@@ -147,6 +147,14 @@ func TestInhibited(t *testing.T) {
 	}
 }
 
+// spoil writes over all of l, the room behind it, too.
+func spoil[T any](l []T, mark T) {
+	l = l[:cap(l)]
+	for i := range l {
+		l[i] = mark
+	}
+}
+
 func TestHeard(t *testing.T) {
 	all := sets(t, `{c="1"} {a="x"} {a="x",b="1"} {b="1"} {}`)
 	ss := []api.Silence{{Ms: eq("c", "1"), From: 10, To: 20}}
@@ -175,8 +183,7 @@ func TestHeard(t *testing.T) {
 	}
 	got := mute.Heard(all, 5, ss, nil)
 	for _, l := range got[:4] {
-		l = append(l, api.Label{Name: "spoiled"})
-		l[0].Value = "spoiled"
+		spoil(l, api.Label{Name: "spoiled"})
 	}
 	got[0] = nil
 	if told(all) != `{c="1"} {a="x"} {a="x",b="1"} {b="1"} {}` {

@@ -27,15 +27,12 @@ func Sub(a, b int) (int, api.Errno) {
 
 // Mul is a times b.
 func Mul(a, b int) (int, api.Errno) {
-	if a == 0 || b == 0 {
+	if b == 0 {
 		return 0, api.OK
 	}
-	// The least int by -1 goes round to itself, so that dividing back wouldn't tell.
-	if a == -1 && b == math.MinInt || b == -1 && a == math.MinInt {
-		return 0, api.ErrOver
-	}
 	product := a * b
-	if product/b != a {
+	// The least int by -1 goes round to itself, so that dividing back wouldn't tell.
+	if product/b != a || b == -1 && a == math.MinInt {
 		return 0, api.ErrOver
 	}
 	return product, api.OK
@@ -54,11 +51,8 @@ func Div(a, b int) (int, api.Errno) {
 
 // Mod is what the quotient of a and b leaves.
 func Mod(a, b int) (int, api.Errno) {
-	switch b {
-	case 0:
+	if b == 0 {
 		return 0, api.ErrZero
-	case -1:
-		return 0, api.OK
 	}
 	return a % b, api.OK
 }

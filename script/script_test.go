@@ -180,7 +180,17 @@ func TestArchiveActs(t *testing.T) {
 	if got := stored(w.Store()); got != `{a="x"}[{6 1}];` || w.Ticks() != 0 {
 		t.Error("no act", got)
 	}
-	// A full disk, and a small one.
+	// Sync and Seal don't look at N; Seal needs room for an image, Sync needs none.
+	tight := script.New(nil, simple(), 5, 14)
+	do(t, tight, "0 0 8 8 0", put(t, `{a="x"}`, 5, 1), act(api.ASync, 1000), act(api.ASeal, 1000), act(api.ACut, 1000), act(api.ASync, 0))
+	if got := stored(tight.Store()); got != `{a="x"}[{5 1}];` {
+		t.Error("a tight disk", got)
+	}
+	do(t, w, "0 0", act(api.ASync, 1000), act(api.ASeal, 1000))
+	if got := stored(w.Store()); got != `{a="x"}[{6 1}];` {
+		t.Error("neither cuts", got)
+	}
+	// A small disk.
 	small := script.New(nil, simple(), 5, 10)
 	do(t, small, "8 0", put(t, `{a="x"}`, 5, 1), act(api.ASync, 0))
 	if len(small.Firing(0)) != 0 || stored(small.Store()) != "" {

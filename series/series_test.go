@@ -225,6 +225,14 @@ func TestAgainstWalk(t *testing.T) {
 	}
 }
 
+// spoil writes over all of l, the room behind it, too.
+func spoil[T any](l []T, mark T) {
+	l = l[:cap(l)]
+	for i := range l {
+		l[i] = mark
+	}
+}
+
 func TestNewMemory(t *testing.T) {
 	given := append(row(1, 1, 2, 2, 3, 3), row(9, 9, 9, 9, 9, 9)...)
 	kept := slices.Clone(given)
@@ -240,10 +248,7 @@ func TestNewMemory(t *testing.T) {
 		t.Error("what was handed in was changed", given)
 	}
 	for _, got := range [][]api.Sample{s.All(), s.Between(0, 3), s.Between(2, 9)} {
-		got = append(got, row(7, 7)...)
-		for i := range got {
-			got[i] = api.Sample{Time: 7, Value: 7}
-		}
+		spoil(got, api.Sample{Time: 7, Value: 7})
 	}
 	if got := s.All(); !slices.Equal(got, row(1, 1, 2, 2, 3, 3, 4, 4)) {
 		t.Error("an answer shares memory", got)

@@ -127,6 +127,9 @@ func TestTurns(t *testing.T) {
 		{row(3, 3, 5, 5), row(4, 4), 10, "[{3 1 []} {4 2 []} {5 1 []} {6 0 []}]"},
 		{nil, row(last, last), api.MaxTicks, "[{199 2 []}]"},
 		{nil, row(0, last), api.MaxTicks, "[{0 2 []}]"},
+		{nil, row(0, last), api.MaxTicks + 1, "[{0 2 []} {200 0 []}]"},
+		{row(last, last), nil, math.MaxInt, "[{199 1 []} {200 0 []}]"},
+		{row(0, 1), row(2, 3), math.MinInt, "[]"},
 	} {
 		if got := fmt.Sprint(span.Turns(c.pending, c.firing, c.n)); got != c.want {
 			t.Error("Turns", c.pending, c.firing, c.n, got)
@@ -216,19 +219,24 @@ func TestAnySpans(t *testing.T) {
 	}
 }
 
+// spoil writes over all of l, the room behind it, too.
+func spoil[T any](l []T, mark T) {
+	l = l[:cap(l)]
+	for i := range l {
+		l[i] = mark
+	}
+}
+
 func TestMemory(t *testing.T) {
 	given := row(1, 3, 5, 6, 9, 9)
 	l, other := given[:2], row(2, 5, 77, 77)
 	was, wasOther := slices.Clone(given), slices.Clone(other)
 	ticks := []int{7, 3, 5, 99}
 	for _, got := range [][]api.Span{span.Of(ticks[:3]...), span.Join(l), span.Join(l, other[:1]), span.Both(l, l), span.Both(l, other[:1]), span.Less(l, nil), span.Less(l, other[:1])} {
-		got = append(got, row(55, 55)...)
-		for i := range got {
-			got[i] = api.Span{From: 55, To: 55}
-		}
+		spoil(got, api.Span{From: 55, To: 55})
 	}
 	span.Turns(l, nil, 10)
-	span.Ticks(l)[0] = 5
+	spoil(span.Ticks(l), 5)
 	if !slices.Equal(given, was) || !slices.Equal(other, wasOther) || !slices.Equal(ticks, []int{7, 3, 5, 99}) {
 		t.Error("what was handed in was changed", given, other, ticks)
 	}

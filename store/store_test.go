@@ -246,6 +246,14 @@ func TestCopy(t *testing.T) {
 	}
 }
 
+// spoil writes over all of l, the room behind it, too.
+func spoil[T any](l []T, mark T) {
+	l = l[:cap(l)]
+	for i := range l {
+		l[i] = mark
+	}
+}
+
 func TestMemory(t *testing.T) {
 	s := store.New()
 	l := append(set("a", "x", "b", "y"), api.Label{Name: "c", Value: "z"})
@@ -260,20 +268,18 @@ func TestMemory(t *testing.T) {
 	if all(s) != was {
 		t.Fatal("what was handed in is kept", all(s))
 	}
-	spoil := func(l []api.Label) {
-		l = append(l, api.Label{Name: "spoiled"})
-		l[0].Value = "spoiled"
-	}
+	mark := api.Label{Name: "spoiled"}
 	for _, got := range s.Sets() {
-		spoil(got)
+		spoil(got, mark)
 	}
 	for _, p := range s.Pick(11, 5) {
-		spoil(p.Set)
+		spoil(p.Set, mark)
 	}
-	s.Samples(set("a", "x", "b", "y"))[0].Value = 7
-	s.Changes(5, 0, 99)[0] = 7
+	spoil(s.Samples(set("a", "x", "b", "y")), sample(7, 7))
+	spoil(s.Changes(5, 0, 99), 7)
 	c := s.Copy()
-	spoil(c.Sets()[0])
+	spoil(c.Sets()[0], mark)
+	spoil(c.Samples(set("a", "x", "b", "y")), sample(7, 7))
 	if all(s) != was || all(c) != was {
 		t.Error("an answer shares memory", all(s))
 	}

@@ -26,6 +26,7 @@ func Escaped(c byte) bool {
 // Quote is s in quotes.
 func Quote(s string) string {
 	var b strings.Builder
+	b.Grow(len(s) + len(`""`))
 	b.WriteByte('"')
 	for i := range len(s) {
 		if Escaped(s[i]) {

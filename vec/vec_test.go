@@ -329,6 +329,14 @@ func TestAgainstPairs(t *testing.T) {
 	}
 }
 
+// spoil writes over all of l, the room behind it, too.
+func spoil[T any](l []T, mark T) {
+	l = l[:cap(l)]
+	for i := range l {
+		l[i] = mark
+	}
+}
+
 func TestNewMemory(t *testing.T) {
 	text := `{b="1"}:3 {a="x",name="m"}:1`
 	a, b := vector(t, text+` {c="1"}:9`)[:2], vector(t, text+` {c="1"}:9`)[:2]
@@ -354,11 +362,9 @@ func TestNewMemory(t *testing.T) {
 			t.Fatal(name, "has no points")
 		}
 		for i := range got {
-			got[i].Value = 77
-			set := append(got[i].Set, api.Label{Name: "spoiled"})
-			set[0] = api.Label{Name: "spoiled"}
+			spoil(got[i].Set, api.Label{Name: "spoiled"})
 		}
-		got = append(got, api.Point{Value: 77})
+		spoil(got, api.Point{Value: 77})
 		if told(a[:3]) != text+` {c="1"}:9` || told(b[:3]) != text+` {c="1"}:9` {
 			t.Fatal(name, "shares memory", told(a[:3]), told(b[:3]), len(got))
 		}
