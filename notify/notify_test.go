@@ -351,6 +351,11 @@ func TestMemory(t *testing.T) {
 	if lset.Print(firing[2]) != `{a="y"}` || !slices.Equal(oks, []bool{true, false, true}) {
 		t.Error("what was handed in was changed")
 	}
+	mixed := sets(t, `{b="1"} {} {a="y"} {a="x"}`)
+	n.Tick(1, mixed, nil, nil)
+	if fmt.Sprint(mixed) != "[[{b 1}] [] [{a y}] [{a x}]]" {
+		t.Error("what was handed in was changed", mixed)
+	}
 	for _, at := range []int{math.MinInt, -1, math.MaxInt} {
 		n.Tick(at, firing, []api.Silence{{}}, []api.Inhibit{{}}, oks...)
 		n.Tick(at, [][]api.Label{nil, {{Name: "A"}}, {{}}}, nil, nil, false)

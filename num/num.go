@@ -10,7 +10,7 @@ import (
 // Add is a and b.
 func Add(a, b int) (int, api.Errno) {
 	sum := a + b
-	if (sum > a) != (b > 0) && b != 0 {
+	if (sum > a) != (b > 0) {
 		return 0, api.ErrOver
 	}
 	return sum, api.OK
@@ -19,7 +19,7 @@ func Add(a, b int) (int, api.Errno) {
 // Sub is a less b.
 func Sub(a, b int) (int, api.Errno) {
 	rest := a - b
-	if (rest < a) != (b > 0) && b != 0 {
+	if (rest < a) != (b > 0) {
 		return 0, api.ErrOver
 	}
 	return rest, api.OK
